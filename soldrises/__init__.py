@@ -1,0 +1,1 @@
+"""Soldrises: prices that rise when sold and fall when not."""

@@ -1,0 +1,137 @@
+"""Markets and other things that the tests share."""
+
+from random import Random
+
+from soldrises.errors import SoldError
+
+# Two goods, three days: wanted both, wanted one, nobody.
+PLAIN = ([(1, 2, 5), (3, 1, -4)], [[9, 7], [None, 3], None])
+
+HUGE = 10 ** 18 - 1
+
+
+class Odd:
+    """An object of a class that the program doesn't know."""
+
+
+def things_of_other_kinds():
+    """Things that are no whole number, no good, no buyer, no goods, no round, no market and no prices."""
+    return [
+        None, True, False, "", "1", "good", b"", b"\x01", b"123", {}, {0: 1, 1: 2}, set(), {1, 2, 3}, frozenset((1,)),
+        [], (), [[]], ([],), [()], ((),), [None], (None,), [[[[]]]], [[], []], ([], []), ((), ()), [[1], [1]],
+        (1, "1", 1), [1, 1, 1, 1, 1, 1, 1], range(2), object(), Odd(), Odd, len,
+    ]
+
+
+def not_whole():
+    """Things that are no whole number."""
+    return things_of_other_kinds() + [[0], [1], (0,), (1,), {0}, {0: 0}, "0", "-1", b"0"]
+
+
+def places_in(thing, at=()):
+    """The places of all things within a thing, itself ahead: each the indexes that lead to it."""
+    yield at
+    if isinstance(thing, (list, tuple)):
+        for index, inner in enumerate(thing):
+            yield from places_in(inner, at + (index,))
+
+
+def thing_at(thing, place):
+    for index in place:
+        thing = thing[index]
+    return thing
+
+
+def with_at(thing, place, other):
+    """A copy of a thing with another one at a place."""
+    if not place:
+        return other
+    copied = [with_at(inner, place[1:], other) if index == place[0] else inner for index, inner in enumerate(thing)]
+    return tuple(copied) if isinstance(thing, tuple) else copied
+
+
+def turned(thing):
+    """A list as a tuple and a tuple as a list."""
+    return tuple(thing) if isinstance(thing, list) else list(thing)
+
+
+def may_stand_at(place, thing):
+    """Whether a thing may stand at a place of a market: None as a buyer or as a worth, [None] as the round."""
+    if place == (1,):
+        return thing == [None]
+    return thing is None and place[:1] == (1,)
+
+
+def broken_markets(market):
+    """What is no market, since one thing in it is of another kind; the market has two goods and a buyer."""
+    for place in places_in(market):
+        for thing in things_of_other_kinds():
+            if not may_stand_at(place, thing):
+                yield with_at(market, place, thing)
+        inner = thing_at(market, place)
+        if isinstance(inner, (list, tuple)):
+            yield with_at(market, place, turned(inner))
+            yield with_at(market, place, dict(enumerate(inner)))
+            if place != (1,):
+                # A shorter round may do; a shorter one of all else doesn't.
+                yield with_at(market, place, inner[:-1])
+        elif inner is not None:
+            yield with_at(market, place, str(inner))
+            yield with_at(market, place, (inner,))
+            yield with_at(market, place, [inner])
+
+
+def some_markets(many, seed=7):
+    """So many markets, the same ones each time."""
+    chance = Random(seed)
+    told = []
+    for _ in range(many):
+        wide = chance.randint(1, 4)
+        goods = [(chance.randint(1, 4), chance.randint(1, 4), chance.randint(-20, 20)) for _ in range(wide)]
+        days = [some_buyer(chance, wide) for _ in range(chance.randint(1, 6))]
+        told.append((goods, days))
+    return told
+
+
+def some_buyer(chance, wide):
+    if chance.randint(0, 5) == 0:
+        return None
+    return [None if chance.randint(0, 3) == 0 else chance.randint(-20, 20) for _ in range(wide)]
+
+
+def take_by_hand(buyer, prices):
+    """What a buyer takes, said another way than in the program."""
+    if buyer is None:
+        return None
+    gains = [(worth - price, -good) for good, (worth, price) in enumerate(zip(buyer, prices)) if worth is not None]
+    gains = sorted(gain for gain in gains if gain[0] >= 0)
+    return -gains[-1][1] if gains else None
+
+
+def prices_by_hand(goods, prices, take):
+    return [price - down + (up + down) * (good == take)
+            for good, ((up, down, _), price) in enumerate(zip(goods, prices))]
+
+
+def refusal(function, *args, **named):
+    """The very class with which a call is refused, or what it told in a tuple."""
+    try:
+        return (function(*args, **named),)
+    except SoldError as error:
+        return type(error)
+
+
+def kinds_of(thing):
+    """A thing with the kind of each thing within it, so that True is not 1 and no tuple is a list."""
+    if isinstance(thing, (list, tuple)):
+        return (type(thing).__name__, [kinds_of(inner) for inner in thing])
+    return (type(thing).__name__, thing)
+
+
+def lists_in(thing):
+    """All lists and dicts within a thing, itself too."""
+    if isinstance(thing, (list, dict)):
+        yield thing
+    if isinstance(thing, (list, tuple)):
+        for inner in thing:
+            yield from lists_in(inner)
