@@ -48,6 +48,11 @@ def is_list_of_goods(thing):
     return all(is_good(good) for good in thing)
 
 
+def is_number_of_good(thing, many):
+    """Tell whether a thing is the number of one of so many goods."""
+    return is_within(thing, 0, many - 1)
+
+
 def is_buyer(thing, many):
     """Tell whether a thing is a buyer for so many goods."""
     if not isinstance(thing, list) or len(thing) != many:
@@ -130,6 +135,11 @@ def taken_by(buyer, prices):
             take = good
             most = worth - prices[good]
     return take
+
+
+def wants(buyer, good):
+    """Tell whether a buyer, or nobody, wants a good."""
+    return buyer is not None and buyer[good] is not None
 
 
 def moved(goods, prices, take):

@@ -1,11 +1,15 @@
 """Markets and other things that the tests share."""
 
+from copy import deepcopy
+from itertools import permutations
 from random import Random
 
 from soldrises.errors import SoldError
 
 # Two goods, three days: wanted both, wanted one, nobody.
 PLAIN = ([(1, 2, 5), (3, 1, -4)], [[9, 7], [None, 3], None])
+# Nobody comes, and both prices fall.
+NOBODY = ([(1, 4, -99), (4, 1, 99)], [None])
 
 HUGE = 10 ** 18 - 1
 
@@ -119,6 +123,43 @@ def refusal(function, *args, **named):
         return (function(*args, **named),)
     except SoldError as error:
         return type(error)
+
+
+def starts_of(market):
+    return [start for _, _, start in market[0]]
+
+
+def prices_like(chance, market, prices, most=4):
+    """Prices of one rest with these, each some sums higher or lower, or the same."""
+    return [price + chance.randint(-most, most) * (up + down) for (up, down, _), price in zip(market[0], prices)]
+
+
+def told_in_all_ways(function, named, alone=()):
+    """What a function tells, each time with one argument less by place and the others by name, in all orders."""
+    names = list(named)
+    told = []
+    for many in range(len(names) - len(alone) + 1):
+        for others in permutations(names[many:]):
+            places = [named[name] for name in names[:many]]
+            told.append(function(*places, **{name: named[name] for name in others}))
+    return told
+
+
+def assert_own(test, function, *args, **named):
+    """What a function tells is new each time, no two lists in it are one, and none of it is what was handed in."""
+    handed = deepcopy((args, named))
+    first = function(*args, **named)
+    kept = deepcopy(first)
+    second = function(*args, **named)
+    ids = [id(inner) for thing in (first, second) for inner in lists_in(thing)]
+    test.assertEqual(len(set(ids)), len(ids))
+    test.assertFalse(set(ids) & {id(inner) for inner in lists_in((args, list(named.values())))})
+    for inner in list(lists_in(first)):
+        inner.clear()
+        inner.append("changed")
+    test.assertEqual(kinds_of(second), kinds_of(kept))
+    test.assertEqual(kinds_of(function(*args, **named)), kinds_of(kept))
+    test.assertEqual((args, named), handed)
 
 
 def kinds_of(thing):

@@ -1,11 +1,12 @@
 """The interface as DOC.md lists it, and the plainest rules of LANGUAGE.md for the files of the package."""
 
 import ast
+import builtins
 import inspect
 import os
 import unittest
 
-from soldrises import errors, markets, runs
+from soldrises import dealings, errors, markets, rests, runs, stalls, starts
 
 HERE = os.path.dirname(os.path.abspath(__file__))
 PACKAGE = os.path.join(os.path.dirname(HERE), "soldrises")
@@ -16,7 +17,31 @@ LISTED = {
         "take_of": "(market, prices, *, day=0)", "prices_behind": "(market, prices, *, day=0)",
     },
     runs: {"takes": "(market, days)", "prices_at": "(market, days)", "sold": "(market, days)"},
+    stalls: {"Stall": "(market)"},
+    rests: {
+        "prices_by": "(market, days, sales)", "rests_at": "(market, days)", "sales_to": "(market, days, prices)",
+    },
+    starts: {
+        "are_of_one_rest": "(market, one, other)", "stand_in_order": "(market, one, other)",
+        "how_far": "(market, one, other)", "meets": "(market, one, other, *, day=0, bound=400)",
+        "between": "(market, one, other)",
+    },
+    dealings: {
+        "needs": "(market, goods)", "has": "(market, goods)", "verdict": "(market)",
+        "does_hold": "(market, dealing)", "does_fall": "(market, goods)",
+    },
 }
+LISTED_METHODS = {
+    stalls.Stall: {
+        "tick": "(self)", "tell": "(self, buyer)", "step": "(self, good, up, down)", "day": "(self)",
+        "prices": "(self)", "sold": "(self)", "log": "(self)",
+    },
+}
+# Of Python's own names, those that rule L8 lets the package use (and only call).
+BUILTINS = (
+    "len", "range", "enumerate", "zip", "min", "max", "sum", "abs", "sorted", "reversed", "int", "str", "bool", "list",
+    "tuple", "dict", "set", "isinstance", "ord", "repr", "any", "all", "divmod", "map", "iter", "next", "ValueError",
+)
 
 
 def files_of_package():
@@ -34,6 +59,11 @@ class InterfaceTest(unittest.TestCase):
         for module, functions in LISTED.items():
             for name, arguments in functions.items():
                 self.assertEqual(str(inspect.signature(getattr(module, name))), arguments, name)
+
+    def test_methods_stand_in_the_class_itself(self):
+        for listed, methods in LISTED_METHODS.items():
+            for name, arguments in methods.items():
+                self.assertEqual(str(inspect.signature(listed.__dict__[name])), arguments, name)
 
     def test_each_is_defined_where_it_is_listed(self):
         for module, functions in LISTED.items():
@@ -70,6 +100,39 @@ class FilesTest(unittest.TestCase):
                 if isinstance(node, ast.ImportFrom) and node.module not in LIBRARY:
                     self.assertEqual((node.level, node.module.split(".")[0]), (0, "soldrises"), name)
                     self.assertNotIn("*", [alias.name for alias in node.names], name)
+
+    def test_what_stands_at_module_level(self):
+        plain = (ast.ImportFrom, ast.FunctionDef, ast.ClassDef)
+        for name, text in files_of_package():
+            for at, node in enumerate(ast.parse(text).body):
+                if at == 0:
+                    self.assertIsInstance(node.value.value, str, name)
+                elif isinstance(node, ast.Assign):
+                    self.assertIsInstance(node.value, ast.Constant, name)
+                else:
+                    self.assertIsInstance(node, plain, name)
+
+    def test_names(self):
+        for name, text in files_of_package():
+            nodes = list(ast.walk(ast.parse(text)))
+            taken = {alias.name for node in nodes if isinstance(node, ast.ImportFrom) for alias in node.names}
+            taken |= {node.name for node in nodes if isinstance(node, ast.ClassDef)}
+            assigned = {node.id for node in nodes if isinstance(node, ast.Name) and isinstance(node.ctx, ast.Store)}
+            assigned |= {node.arg for node in nodes if isinstance(node, ast.arg)}
+            self.assertEqual(assigned & taken, set(), name)
+            functions = {node.name for node in nodes if isinstance(node, ast.FunctionDef)}
+            self.assertEqual((assigned | functions | taken) & set(dir(builtins)) - {"__init__"}, set(), name)
+
+    def test_what_is_pythons_own(self):
+        for name, text in files_of_package():
+            read = {node.id for node in ast.walk(ast.parse(text))
+                    if isinstance(node, ast.Name) and isinstance(node.ctx, ast.Load)}
+            self.assertEqual(read & set(dir(builtins)) - set(BUILTINS), set(), name)
+
+    def test_no_decorators(self):
+        for name, text in files_of_package():
+            for node in ast.walk(ast.parse(text)):
+                self.assertEqual(getattr(node, "decorator_list", []), [], name)
 
     def test_no_division_but_of_whole_numbers(self):
         barred = (ast.AsyncFunctionDef, ast.Await, ast.Div)

@@ -4,15 +4,14 @@ import copy
 import unittest
 
 from samples import (
-    HUGE, PLAIN, broken_markets, kinds_of, lists_in, not_whole, prices_by_hand, refusal, some_markets, take_by_hand,
-    things_of_other_kinds, turned,
+    HUGE, NOBODY, PLAIN, broken_markets, kinds_of, lists_in, not_whole, prices_by_hand, refusal, some_markets,
+    take_by_hand, things_of_other_kinds, turned,
 )
 from soldrises.errors import NoDay, NoMarket
 from soldrises.markets import prices_behind, take_of
 from soldrises.runs import prices_at, sold, takes
 
 FUNCTIONS = (takes, prices_at, sold)
-NOBODY = ([(1, 4, -99), (4, 1, 99)], [None])
 
 
 def day_by_day(market, days):
