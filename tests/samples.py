@@ -1,7 +1,8 @@
 """Markets and other things that the tests share."""
 
 from copy import deepcopy
-from itertools import permutations
+from fractions import Fraction
+from itertools import combinations, permutations
 from random import Random
 
 from soldrises.errors import SoldError
@@ -10,8 +11,27 @@ from soldrises.errors import SoldError
 PLAIN = ([(1, 2, 5), (3, 1, -4)], [[9, 7], [None, 3], None])
 # Nobody comes, and both prices fall.
 NOBODY = ([(1, 4, -99), (4, 1, 99)], [None])
+# Its two goods need 4/5 and 1 of two days: each buyer wants one of them.
+HELD = ([(3, 2, 0), (2, 2, 0)], [[5, 7], [None, 1]])
 
 HUGE = 10 ** 18 - 1
+
+
+def wanting(*rows, up=1, down=1):
+    """A market of like goods, with a row of x and - for each day, or nobody."""
+    wide = max(len(row) for row in rows if row != "nobody")
+    days = [None if row == "nobody" else [0 if sign == "x" else None for sign in row] for row in rows]
+    return ([(up, down, 0)] * wide, days)
+
+
+# Just so many days as are needed, by one good, by some of several, or by all together.
+AT_THE_EDGE = [
+    wanting("x", "nobody"), wanting("x", "-"), wanting("xx", "xx"), wanting("xx", "xx", "xx"), wanting("x-", "xx"),
+    wanting("x", "nobody", "nobody", "nobody", up=3), wanting("xxxx", up=3), wanting("xxx", "xxx", up=2),
+    wanting("xx--", "--xx", "xx--", "--xx", up=3), wanting("x-x", "xxx", "-x-", "nobody", up=3),
+]
+# Markets in which some set falls.
+FALLING = [PLAIN, NOBODY, wanting("-"), wanting("x-", "--"), wanting("x-x", "--x"), ([(1, 4, 0), (1, 4, 0)], [[0, 0]])]
 
 
 class Odd:
@@ -117,6 +137,66 @@ def prices_by_hand(goods, prices, take):
             for good, ((up, down, _), price) in enumerate(zip(goods, prices))]
 
 
+def run_by_hand(market, days):
+    """The takes of so many days, and the prices ahead of each of them and behind the last, without the program."""
+    prices = starts_of(market)
+    told, ahead = [], [prices]
+    for day in range(days):
+        take = take_by_hand(market[1][day % len(market[1])], prices)
+        prices = prices_by_hand(market[0], prices, take)
+        told.append(take)
+        ahead.append(prices)
+    return told, ahead
+
+
+def all_sets(market):
+    """All sets of the market's goods, the small ones ahead."""
+    wide = len(market[0])
+    return [list(goods) for many in range(1, wide + 1) for goods in combinations(range(wide), many)]
+
+
+def need_by_hand(market, goods):
+    return sum(Fraction(down, up + down) for up, down, _ in (market[0][good] for good in goods)) * len(market[1])
+
+
+def had_by_hand(market, goods):
+    told = 0
+    for buyer in market[1]:
+        if buyer is not None and not all(buyer[good] is None for good in goods):
+            told += 1
+    return told
+
+
+def is_held_by_hand(market):
+    return all(need_by_hand(market, goods) < had_by_hand(market, goods) for goods in all_sets(market))
+
+
+def held_markets(many, seed):
+    """So many markets that are held, of all sizes in turns, with starts and worths to 99 either way."""
+    chance = Random(seed)
+    found = 0
+    while found < many:
+        market = wide_market(chance, found % 4 + 1, found // 4 % 6 + 1)
+        if is_held_by_hand(market):
+            found += 1
+            yield market
+
+
+def wide_market(chance, wide, long):
+    """A market of so many goods and days, its numbers anywhere within their bounds."""
+    least, most = chance.choice(((1, 4), (2, 3), (3, 1), (4, 1)))
+    wanted, comes = chance.choice((60, 80, 100)), chance.choice((70, 90, 100))
+    span = chance.choice((5, 30, 99))
+    goods = [(chance.randint(least, 4), chance.randint(1, most), chance.choice((-99, 99, chance.randint(-span, span))))
+             for _ in range(wide)]
+    days = []
+    for _ in range(long):
+        buyer = [chance.choice((-span, span, chance.randint(-span, span))) if chance.randrange(100) < wanted else None
+                 for _ in range(wide)]
+        days.append(buyer if chance.randrange(100) < comes else None)
+    return goods, days
+
+
 def refusal(function, *args, **named):
     """The very class with which a call is refused, or what it told in a tuple."""
     try:
@@ -143,6 +223,14 @@ def told_in_all_ways(function, named, alone=()):
             places = [named[name] for name in names[:many]]
             told.append(function(*places, **{name: named[name] for name in others}))
     return told
+
+
+def assert_told_in_all_ways(test, asked):
+    """What functions tell is the same by places and by names, in any order."""
+    for function, named in asked:
+        told = function(*named.values())
+        for other in told_in_all_ways(function, named):
+            test.assertEqual(kinds_of(other), kinds_of(told))
 
 
 def assert_own(test, function, *args, **named):

@@ -7,34 +7,14 @@ from fractions import Fraction
 from random import Random
 
 from samples import (
-    HUGE, NOBODY, PLAIN, assert_own, broken_markets, kinds_of, not_whole, refusal, some_markets,
-    things_of_other_kinds, told_in_all_ways, turned,
+    AT_THE_EDGE, HELD, HUGE, NOBODY, PLAIN, all_sets, assert_own, assert_told_in_all_ways, broken_markets,
+    had_by_hand, kinds_of, need_by_hand, not_whole, refusal, some_markets, things_of_other_kinds, turned, wanting,
 )
 from soldrises.dealings import does_fall, does_hold, has, needs, verdict
 from soldrises.errors import NoGoods, NoMarket
 from soldrises.runs import prices_at
 
 BILLION = 1000000000
-# Its two goods need 4/5 and 1 of two days: each buyer wants one of them.
-HELD = ([(3, 2, 0), (2, 2, 0)], [[5, 7], [None, 1]])
-
-
-def all_sets(market):
-    """All sets of the market's goods, the small ones ahead."""
-    wide = len(market[0])
-    return [list(goods) for many in range(1, wide + 1) for goods in itertools.combinations(range(wide), many)]
-
-
-def need_by_hand(market, goods):
-    return sum(Fraction(down, up + down) for up, down, _ in (market[0][good] for good in goods)) * len(market[1])
-
-
-def had_by_hand(market, goods):
-    told = 0
-    for buyer in market[1]:
-        if buyer is not None and not all(buyer[good] is None for good in goods):
-            told += 1
-    return told
 
 
 def is_right_dealing(market, dealing):
@@ -73,21 +53,6 @@ def markets_of_all_kinds(many, seed):
             buyer = [chance.randint(-20, 20) if chance.randrange(100) < wanted else None for _ in range(wide)]
             days.append(buyer if chance.randrange(100) < comes else None)
         yield goods, days
-
-
-def wanting(*rows, up=1, down=1):
-    """A market of like goods, with a row of x and - for each day, or nobody."""
-    wide = max(len(row) for row in rows if row != "nobody")
-    days = [None if row == "nobody" else [0 if sign == "x" else None for sign in row] for row in rows]
-    return ([(up, down, 0)] * wide, days)
-
-
-# Just so many days as are needed, by one good, by some of several, or by all together.
-AT_THE_EDGE = [
-    wanting("x", "nobody"), wanting("x", "-"), wanting("xx", "xx"), wanting("xx", "xx", "xx"), wanting("x-", "xx"),
-    wanting("x", "nobody", "nobody", "nobody", up=3), wanting("xxxx", up=3), wanting("xxx", "xxx", up=2),
-    wanting("xx--", "--xx", "xx--", "--xx", up=3), wanting("x-x", "xxx", "-x-", "nobody", up=3),
-]
 
 
 class NeedsTest(unittest.TestCase):
@@ -432,10 +397,7 @@ class ArgumentsTest(unittest.TestCase):
             self.assertIs(refusal(does_hold, thing, self.dealing), NoMarket)
 
     def test_by_place_and_by_name(self):
-        for function, named in self.asked:
-            told = function(*named.values())
-            for other in told_in_all_ways(function, named):
-                self.assertEqual(kinds_of(other), kinds_of(told))
+        assert_told_in_all_ways(self, self.asked)
 
     def test_nothing_handed_in_is_changed(self):
         for function, named in self.asked:

@@ -6,7 +6,7 @@ import inspect
 import os
 import unittest
 
-from soldrises import dealings, errors, markets, rests, runs, stalls, starts
+from soldrises import dealings, desk, errors, markets, rests, rounds, runs, seen, stalls, starts, texts
 
 HERE = os.path.dirname(os.path.abspath(__file__))
 PACKAGE = os.path.join(os.path.dirname(HERE), "soldrises")
@@ -30,12 +30,20 @@ LISTED = {
         "needs": "(market, goods)", "has": "(market, goods)", "verdict": "(market)",
         "does_hold": "(market, dealing)", "does_fall": "(market, goods)",
     },
+    rounds: {
+        "round_of": "(market)", "sold_in_round": "(market)", "far_prices": "(market, days)",
+        "far_take": "(market, day)", "ever": "(market)", "receipts": "(market)", "first_unlike": "(market, other)",
+    },
+    seen: {"worths_let": "(goods, length, row)", "lets_be": "(goods, worths, row)"},
+    texts: {"show_market": "(market)", "read_market": "(text)"},
+    desk: {"Desk": "()"},
 }
 LISTED_METHODS = {
     stalls.Stall: {
         "tick": "(self)", "tell": "(self, buyer)", "step": "(self, good, up, down)", "day": "(self)",
         "prices": "(self)", "sold": "(self)", "log": "(self)",
     },
+    desk.Desk: {"names": "(self)", "say": "(self, row)"},
 }
 # Of Python's own names, those that rule L8 lets the package use (and only call).
 BUILTINS = (
@@ -79,6 +87,36 @@ class FilesTest(unittest.TestCase):
         names = [name for name, _ in files_of_package()]
         self.assertIn("__init__.py", names)
         self.assertEqual([name for name in names if not name.endswith(".py") or name != name.lower()], [])
+        listed = [module.__name__.split(".")[1] + ".py" for module in LISTED]
+        self.assertEqual(sorted(listed + ["__init__.py", "errors.py"]), names)
+
+    def test_no_two_files_import_from_each_other(self):
+        imports = {}
+        for name, text in files_of_package():
+            imports["soldrises." + name[:-3]] = {node.module for node in ast.walk(ast.parse(text))
+                                                 if isinstance(node, ast.ImportFrom)}
+        while imports:
+            free = [name for name, others in imports.items() if not others & set(imports)]
+            self.assertNotEqual(free, [], sorted(imports))
+            for name in free:
+                del imports[name]
+
+    def test_each_name_is_imported_from_where_it_is_defined_and_used(self):
+        defined = {}
+        for name, text in files_of_package():
+            body = ast.parse(text).body
+            defined["soldrises." + name[:-3]] = {node.name for node in body if hasattr(node, "name")} | {
+                target.id for node in body if isinstance(node, ast.Assign) for target in node.targets}
+        for name, text in files_of_package():
+            nodes = list(ast.walk(ast.parse(text)))
+            read = {node.id for node in nodes if isinstance(node, ast.Name) and isinstance(node.ctx, ast.Load)}
+            for node in nodes:
+                if isinstance(node, ast.ImportFrom):
+                    told = {alias.name for alias in node.names}
+                    self.assertEqual(told - read, set(), name)
+                    self.assertEqual([alias.asname for alias in node.names if alias.asname], [], name)
+                    if node.module not in LIBRARY:
+                        self.assertEqual(told - defined[node.module], set(), name)
 
     def test_sizes_and_signs(self):
         for name, text in files_of_package():
